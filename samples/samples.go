@@ -16,6 +16,18 @@ func NotRight() []api.Rational {
 	return []api.Rational{"", "-", "1/1", "2/4", "0/3", "1/-2", "+1", "-0", "01", "a", "1/0", "1.5", long, "1/" + long}
 }
 
+// Numbers reads a list of numbers.
+func Numbers(s string) []api.Rational { return fields(s, 0) }
+
+// Rows reads lists of numbers, which are separated by commas.
+func Rows(s string) [][]api.Rational {
+	var l [][]api.Rational
+	for row := range strings.SplitSeq(s, ",") {
+		l = append(l, Numbers(row))
+	}
+	return l
+}
+
 // Vector reads three numbers.
 func Vector(s string) api.Vector {
 	n := fields(s, 3)
