@@ -2,46 +2,90 @@
 package whole
 
 import (
+	"cmp"
+	"math"
+	"math/bits"
 	"strings"
 
 	"klippe/api"
 	"klippe/integer"
-	"klippe/rational"
 )
 
-// Int is an integer. Its value without words is 0, and has no sign.
+// Int is an integer. It is an int, if its magnitude is at most the greatest one; otherwise it has a sign and words. Its value without anything is 0.
 type Int struct {
+	small int
 	minus bool
-	size  words
+	large words
 }
 
 // Of returns an integer that is canonical as a text.
 func Of(a api.Int) Int {
+	if n, is := integer.Small(a); is {
+		return From(n)
+	}
 	digits := strings.TrimPrefix(string(a), "-")
 	return signed(len(digits) < len(a), split(digits))
 }
 
 // From returns an int as an integer.
-func From(n int) Int { return Of(integer.Of(n)) }
+func From(n int) Int {
+	if n == math.MinInt {
+		return Int{minus: true, large: words{1 << 63}}
+	}
+	return Int{small: n}
+}
 
-func signed(minus bool, size words) Int { return Int{minus && len(size) > 0, size} }
+// signed returns the integer of a magnitude.
+func signed(minus bool, size words) Int {
+	if len(size) > 1 || len(size) == 1 && size[0] > math.MaxInt {
+		return Int{minus: minus, large: size}
+	}
+	n := 0
+	if len(size) == 1 {
+		n = int(size[0])
+	}
+	if minus {
+		n = -n
+	}
+	return Int{small: n}
+}
+
+// isSmall reports whether an integer is an int.
+func (x Int) isSmall() bool { return len(x.large) == 0 }
+
+// size returns the magnitude.
+func (x Int) size() words {
+	switch {
+	case !x.isSmall():
+		return x.large
+	case x.small == 0:
+		return nil
+	}
+	return words{uint64(max(x.small, -x.small))}
+}
+
+// isLess reports whether an integer is less than 0.
+func (x Int) isLess() bool { return x.minus || x.small < 0 }
 
 // Text returns the canonical text.
 func (x Int) Text() api.Int {
 	switch {
-	case len(x.size) == 0:
-		return "0"
+	case x.isSmall():
+		return integer.Of(x.small)
 	case x.minus:
-		return api.Int("-" + x.size.digits())
+		return api.Int("-" + x.large.digits())
 	}
-	return api.Int(x.size.digits())
+	return api.Int(x.large.digits())
 }
+
+// Small returns an integer as an int, if it is one.
+func (x Int) Small() (n int, is bool) { return x.small, x.isSmall() }
 
 // Sign returns 1, 0 or -1, as an integer is greater than 0, 0, or less.
 func (x Int) Sign() int {
 	switch {
-	case len(x.size) == 0:
-		return 0
+	case x.isSmall():
+		return cmp.Compare(x.small, 0)
 	case x.minus:
 		return -1
 	}
@@ -49,61 +93,67 @@ func (x Int) Sign() int {
 }
 
 // Compare returns the sign of x less y.
-func Compare(x, y Int) int { return x.Sub(y).Sign() }
+func Compare(x, y Int) int {
+	if x.isSmall() && y.isSmall() {
+		return cmp.Compare(x.small, y.small)
+	}
+	return x.Sub(y).Sign()
+}
 
 // Neg returns the opposite integer.
-func (x Int) Neg() Int { return signed(!x.minus, x.size) }
+func (x Int) Neg() Int {
+	if x.isSmall() {
+		return Int{small: -x.small}
+	}
+	return Int{minus: !x.minus, large: x.large}
+}
 
 // Abs returns the magnitude.
-func (x Int) Abs() Int { return Int{false, x.size} }
+func (x Int) Abs() Int {
+	if x.isLess() {
+		return x.Neg()
+	}
+	return x
+}
 
 // Add returns the sum.
 func (x Int) Add(y Int) Int {
-	if x.minus == y.minus {
-		return signed(x.minus, x.size.plus(y.size))
+	if x.isSmall() && y.isSmall() {
+		if sum := x.small + y.small; (sum > x.small) == (y.small > 0) && sum != math.MinInt {
+			return Int{small: sum}
+		}
 	}
-	if x.size.compare(y.size) < 0 {
-		x, y = y, x
+	minus, a, b := x.isLess(), x.size(), y.size()
+	if minus == y.isLess() {
+		return signed(minus, a.plus(b))
 	}
-	return signed(x.minus, x.size.less(y.size))
+	if a.compare(b) < 0 {
+		return signed(!minus, b.less(a))
+	}
+	return signed(minus, a.less(b))
 }
 
 // Sub returns the difference.
 func (x Int) Sub(y Int) Int { return x.Add(y.Neg()) }
 
 // Mul returns the product.
-func (x Int) Mul(y Int) Int { return signed(x.minus != y.minus, x.size.times(y.size)) }
+func (x Int) Mul(y Int) Int {
+	if x.isSmall() && y.isSmall() {
+		high, low := bits.Mul64(uint64(max(x.small, -x.small)), uint64(max(y.small, -y.small)))
+		if high == 0 && low <= math.MaxInt {
+			return Int{small: x.small * y.small}
+		}
+	}
+	return signed(x.isLess() != y.isLess(), x.size().times(y.size()))
+}
 
 // Over returns the quotient by a divisor of an integer; it is 0 if the divisor is 0.
 func (x Int) Over(y Int) Int {
-	if len(y.size) == 0 {
+	switch {
+	case y.Sign() == 0:
 		return Int{}
+	case x.isSmall() && y.isSmall():
+		return Int{small: x.small / y.small}
 	}
-	return signed(x.minus != y.minus, x.size.over(y.size))
-}
-
-// Ratio returns the quotient by an integer that is not 0 as a number.
-func Ratio(x, y Int) api.Rational {
-	quotient, _ := rational.New(x.Text(), y.Text())
-	return quotient
-}
-
-// Primitive returns the positive multiple of some numbers that has integers without a common divisor, and its factor. Zeros alone have the factor 1.
-func Primitive(l ...api.Rational) (multiple []Int, factor api.Rational) {
-	common, divisor := api.Int("1"), api.Int("0")
-	for _, x := range l {
-		num, den := rational.Parts(x)
-		divisor = integer.Gcd(divisor, num)
-		share, _, _ := integer.DivMod(den, integer.Gcd(common, den))
-		common = integer.Mul(common, share)
-	}
-	factor, e := rational.New(common, divisor)
-	if e != api.OK {
-		factor = "1"
-	}
-	multiple = make([]Int, len(l))
-	for i, x := range l {
-		multiple[i] = Of(api.Int(rational.Mul(x, factor)))
-	}
-	return multiple, factor
+	return signed(x.isLess() != y.isLess(), x.size().over(y.size()))
 }

@@ -13,7 +13,10 @@ import (
 
 // integers returns integers of many lengths: with words of zeros, of ones, and of any bits.
 func integers(r *rand.Rand) []*big.Int {
-	l := []*big.Int{big.NewInt(0), big.NewInt(1), big.NewInt(-1), big.NewInt(chunk), big.NewInt(chunk - 1), big.NewInt(math.MinInt64), new(big.Int).SetUint64(math.MaxUint64)}
+	l := []*big.Int{big.NewInt(0), big.NewInt(1), big.NewInt(-1), big.NewInt(chunk), big.NewInt(chunk - 1), big.NewInt(math.MinInt64), big.NewInt(math.MaxInt64), big.NewInt(-math.MaxInt64), new(big.Int).SetUint64(math.MaxUint64), new(big.Int).SetUint64(1 << 63)}
+	for _, n := range []int64{3, -7, 12345, 1 << 31, -1 << 32, 1<<32 - 1, 1 << 62, -1 << 62, 3037000499, 3037000500, -3037000500} {
+		l = append(l, big.NewInt(n))
+	}
 	for bits := 60; bits < 1500; bits = bits*3/2 + 1 {
 		power := new(big.Int).Lsh(big.NewInt(1), uint(bits))
 		l = append(l, power, new(big.Int).Sub(power, big.NewInt(1)), new(big.Int).Add(power, big.NewInt(1)), new(big.Int).Rand(r, power), new(big.Int).Neg(new(big.Int).Rand(r, power)))
@@ -24,15 +27,25 @@ func integers(r *rand.Rand) []*big.Int {
 
 func of(n *big.Int) Int { return Of(api.Int(n.String())) }
 
+// checkSmall expects an int exactly where the magnitude is one, as equal integers have only one form.
+func checkSmall(t *testing.T, x Int, n *big.Int) {
+	t.Helper()
+	want := n.IsInt64() && n.Int64() != math.MinInt64
+	if small, is := x.Small(); is != want || is && int64(small) != n.Int64() || x.Sign() != n.Sign() {
+		t.Fatalf("Small of %s = %d, %t", n, small, is)
+	}
+}
+
 func TestText(t *testing.T) {
 	for _, n := range integers(rand.New(rand.NewSource(1))) {
 		x := of(n)
 		if string(x.Text()) != n.String() || x.Sign() != n.Sign() {
 			t.Errorf("%s is %s, with the sign %d", n, x.Text(), x.Sign())
 		}
-		if len(x.size) != len(n.Bits()) {
-			t.Errorf("%s has %d words", n, len(x.size))
+		if len(x.size()) != len(n.Bits()) {
+			t.Errorf("%s has %d words", n, len(x.size()))
 		}
+		checkSmall(t, x, n)
 	}
 	for n, want := range map[int]api.Int{0: "0", -7: "-7", math.MaxInt: "9223372036854775807", math.MinInt: "-9223372036854775808"} {
 		if got := From(n).Text(); got != want {
@@ -63,6 +76,7 @@ func TestArithmetic(t *testing.T) {
 				if string(c.got.Text()) != c.want.String() {
 					t.Fatalf("%s of %s and %s: %s", name, a, b, c.got.Text())
 				}
+				checkSmall(t, c.got, c.want)
 			}
 			if Compare(x, y) != a.Cmp(b) {
 				t.Fatalf("Compare(%s, %s) = %d", a, b, Compare(x, y))
@@ -91,13 +105,51 @@ func TestNotExact(t *testing.T) {
 }
 
 func TestRatio(t *testing.T) {
+	l := integers(rand.New(rand.NewSource(4)))
+	for _, a := range l {
+		for _, b := range l {
+			if b.Sign() == 0 {
+				continue
+			}
+			if got := Ratio(of(a), of(b)); string(got) != new(big.Rat).SetFrac(a, b).RatString() {
+				t.Fatalf("Ratio(%s, %s) = %s", a, b, got)
+			}
+		}
+	}
 	for _, c := range []struct {
 		x, y int
 		want api.Rational
-	}{{6, -4, "-3/2"}, {0, 5, "0"}, {-9, -3, "3"}, {7, 9, "7/9"}} {
+	}{{6, -4, "-3/2"}, {0, 5, "0"}, {0, -5, "0"}, {-9, -3, "3"}, {7, 9, "7/9"}, {-7, 9, "-7/9"}} {
 		if got := Ratio(From(c.x), From(c.y)); got != c.want {
 			t.Errorf("Ratio(%d, %d) = %s", c.x, c.y, got)
 		}
+	}
+}
+
+func TestCommon(t *testing.T) {
+	for s, want := range map[string]string{
+		"":               " 1",
+		"0 5 -7":         " 0 5 -7 1",
+		"1/2 -1/3 0":     " 3 -2 0 6",
+		"1/4 5/6 3":      " 3 10 36 12",
+		"-4/3 2/3":       " -4 2 3",
+		"7 -1/12 5/8 60": " 168 -2 15 1440 24",
+	} {
+		var l []api.Rational
+		for _, word := range strings.Fields(s) {
+			l = append(l, api.Rational(word))
+		}
+		got := ""
+		for _, x := range Common(l...) {
+			got += " " + string(x.Text())
+		}
+		if got != want {
+			t.Errorf("Common(%s) = %s", s, got)
+		}
+	}
+	most := api.Rational(strings.Repeat("9", 200))
+	if l := Common(most, "1/"+most); l[0].Text() != l[2].Mul(l[2]).Text() || l[1].Text() != "1" || l[2].Text() != api.Int(most) {
+		t.Errorf("Common = %v", l)
 	}
 }
 
