@@ -324,13 +324,25 @@ func checkData(t *testing.T, l []api.Plane, corners []api.Vector, s Solid) {
 	if !slices.Equal(s.Planes, want) || len(s.Faces) != len(want) {
 		t.Fatalf("Of(%v) has the planes %v", l, s.Planes)
 	}
-	edges := 0
+	// Each edge is a side of two faces, once in each direction.
+	sides := map[[2]int]bool{}
 	for i, around := range s.Faces {
 		checkFace(t, s, i)
-		edges += len(around)
+		for k, a := range around {
+			side := [2]int{a, around[(k+1)%len(around)]}
+			if sides[side] {
+				t.Fatalf("Of(%v) has the side %v twice", l, side)
+			}
+			sides[side] = true
+		}
 	}
-	if 2*(len(s.Vertices)+len(s.Faces)) != edges+4 {
-		t.Fatalf("Of(%v) has %d vertices, %d faces and %d sides", l, len(s.Vertices), len(s.Faces), edges)
+	for side := range sides {
+		if !sides[[2]int{side[1], side[0]}] {
+			t.Fatalf("Of(%v) has the side %v once", l, side)
+		}
+	}
+	if 2*(len(s.Vertices)+len(s.Faces)) != len(sides)+4 {
+		t.Fatalf("Of(%v) has %d vertices, %d faces and %d sides", l, len(s.Vertices), len(s.Faces), len(sides))
 	}
 	if e := Check(s); e != api.OK {
 		t.Fatalf("Check(%v) = %d", s, e)
