@@ -3,6 +3,7 @@ package exact
 
 import (
 	"cmp"
+	"slices"
 
 	"klippe/api"
 	"klippe/rational"
@@ -37,6 +38,33 @@ func Compare(p, q Point) int {
 		}
 	}
 	return 0
+}
+
+// OrderPoints compares two points by X, then by Y, as they are written.
+func OrderPoints(a, b api.Point) int {
+	return cmp.Or(rational.Compare(a.X, b.X), rational.Compare(a.Y, b.Y))
+}
+
+// FromLeast returns the points around a ring from the least one on.
+func FromLeast(ring []api.Point) []api.Point {
+	least := 0
+	for i, p := range ring {
+		if OrderPoints(p, ring[least]) < 0 {
+			least = i
+		}
+	}
+	return slices.Concat(ring[least:], ring[:least])
+}
+
+// Weights returns numbers that are in proportion to the shares of three corners in a point, and their sum. If the corners turn left, the sum is greater than 0.
+func Weights(corners [3]Point, p Point) (parts [3]whole.Int, sum whole.Int) {
+	for i, c := range corners {
+		// The height above the opposite side is in proportion to the share, but for the W of the corner.
+		opposite := Through(corners[(i+1)%3], corners[(i+2)%3])
+		parts[i] = opposite.Height(p).Mul(c[2])
+		sum = sum.Add(parts[i])
+	}
+	return parts, sum
 }
 
 // Turn tells to which side three points turn: 1 is the left one.

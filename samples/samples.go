@@ -1,4 +1,4 @@
-// Package samples makes the numbers, points and vectors that the tests of the layers use; no layer imports it.
+// Package samples makes the numbers, points, vectors and meshes that the tests of the layers use; no layer imports it.
 package samples
 
 import (

@@ -8,6 +8,7 @@ import (
 	"klippe/api"
 	"klippe/integer"
 	"klippe/rational"
+	"klippe/roots"
 )
 
 // Limits.
@@ -30,19 +31,19 @@ func Check(s Surd) api.Errno {
 	if len(s) > MaxTerms {
 		return api.ErrLimit
 	}
-	before := make([]marked, 0, len(s))
+	before := make([]roots.Marked, 0, len(s))
 	for i, t := range s {
 		if e := checkTerm(t); e != api.OK {
 			return e
 		}
-		m := mark(t)
-		if _, is := m.root(); is && t.Radicand != "1" {
+		m := roots.Mark(roots.Term(t))
+		if t.Radicand != "1" && m.IsSquare() {
 			return api.ErrForm
 		}
 		if i > 0 && integer.Compare(t.Radicand, s[i-1].Radicand) <= 0 {
 			return api.ErrOrder
 		}
-		if slices.ContainsFunc(before, m.alike) {
+		if slices.ContainsFunc(before, m.IsAlike) {
 			return api.ErrForm
 		}
 		before = append(before, m)
@@ -85,12 +86,10 @@ func Of(x api.Rational) (Surd, api.Errno) {
 	if rational.Sign(x) < 0 {
 		return nil, api.ErrRange
 	}
-	if root, is := rational.Root(x); is {
-		return From(root)
+	if x == "0" {
+		return nil, api.OK
 	}
-	num, den := rational.Parts(x)
-	factor, _ := rational.New("1", den)
-	return result(Surd{{factor, integer.Mul(num, den)}})
+	return result(Surd{Term(roots.Of(x))})
 }
 
 // From returns a number as a surd.

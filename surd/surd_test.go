@@ -131,16 +131,6 @@ func TestCheck(t *testing.T) {
 	}
 }
 
-func TestProductOfPrimes(t *testing.T) {
-	all := api.Int("1")
-	for _, p := range primes {
-		all = integer.Mul(all, integer.Of(p))
-	}
-	if all != product {
-		t.Errorf("the product is %s", all)
-	}
-}
-
 func TestWrongArguments(t *testing.T) {
 	right := root(t, "2")
 	for _, c := range wrong {

@@ -1,0 +1,50 @@
+package polyline
+
+import (
+	"klippe/api"
+	"klippe/rational"
+	"klippe/roots"
+	"klippe/surd"
+)
+
+// Length returns the length of a chain.
+func Length(c []api.Point) (surd.Surd, api.Errno) {
+	if e := Check(c); e != api.OK {
+		return nil, e
+	}
+	return length(c)
+}
+
+// Around returns the length of all sides of a ring.
+func Around(c []api.Point) (surd.Surd, api.Errno) {
+	if e := Ring(c); e != api.OK {
+		return nil, e
+	}
+	return length(closed(c))
+}
+
+// length adds up the lengths of segments. The roots are not those of package surd, as their sum can be right though they are too long.
+func length(c []api.Point) (surd.Surd, api.Errno) {
+	var sum roots.Sum
+	for i, to := range c[1:] {
+		sum.Add(roots.Of(square(c[i], to)))
+		// Nothing is less than 0, so no term is lost again.
+		if sum.Len() > surd.MaxTerms {
+			return nil, api.ErrLimit
+		}
+	}
+	var s surd.Surd
+	for _, t := range sum.Terms() {
+		s = append(s, surd.Term(t))
+	}
+	if surd.Check(s) != api.OK {
+		return nil, api.ErrLimit
+	}
+	return s, api.OK
+}
+
+// square returns the squared distance of two points.
+func square(a, b api.Point) api.Rational {
+	x, y := rational.Sub(b.X, a.X), rational.Sub(b.Y, a.Y)
+	return rational.Add(rational.Mul(x, x), rational.Mul(y, y))
+}
