@@ -56,6 +56,14 @@ func TestFromLeast(t *testing.T) {
 	}
 }
 
+func TestArea(t *testing.T) {
+	for s, want := range map[string]api.Rational{"": "0", "1 2": "0", "0 0 4 0": "0", "0 0 4 0 0 2": "8", "0 2 4 0 0 0": "-8", "1 1 5 1 5 2 2 2 2 4 1 4": "12", "1/2 1/2 0 0 1 0 1 1": "1"} {
+		if got := Area(samples.Points(s)); got != want {
+			t.Errorf("Area(%s) = %s", s, got)
+		}
+	}
+}
+
 // TestWeights adds the corners up again.
 func TestWeights(t *testing.T) {
 	r := rand.New(rand.NewSource(7))

@@ -56,6 +56,16 @@ func FromLeast(ring []api.Point) []api.Point {
 	return slices.Concat(ring[least:], ring[:least])
 }
 
+// Area returns the doubled area of a ring, less than 0 if it is clockwise. It adds up the triangles at the first point, whose numbers are shorter than those of the origin's where the ring is far from it.
+func Area(ring []api.Point) api.Rational {
+	sum := api.Rational("0")
+	for i := 2; i < len(ring); i++ {
+		a, b, c := ring[0], ring[i-1], ring[i]
+		sum = rational.Add(sum, Determinant(rational.Sub(b.X, a.X), rational.Sub(b.Y, a.Y), rational.Sub(c.X, a.X), rational.Sub(c.Y, a.Y)))
+	}
+	return sum
+}
+
 // Weights returns numbers that are in proportion to the shares of three corners in a point, and their sum. If the corners turn left, the sum is greater than 0.
 func Weights(corners [3]Point, p Point) (parts [3]whole.Int, sum whole.Int) {
 	for i, c := range corners {

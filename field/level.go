@@ -119,7 +119,7 @@ func Level(m api.Mesh, f api.Field, z api.Rational) ([]Segment, api.Errno) {
 		}
 		next := (k + 1) % len(c.corners)
 		if c.isWhole {
-			// Along a side of the triangle there is a line if all is below it on its other side.
+			// A side of the triangle is a line if there is a triangle beyond it, without a greater value.
 			t := m.Triangles[i]
 			third, isInner := beyond[[2]int{t[next], t[k]}]
 			if !isInner || rational.Compare(f[third], z) > 0 {

@@ -35,18 +35,13 @@ func integral(m api.Mesh, over func(i int) api.Rational) (api.Rational, api.Errn
 	for _, t := range m.Triangles {
 		mean := positive([3]api.Rational{values[t[0]], values[t[1]], values[t[2]]})
 		if mean != "0" {
-			sum = rational.Add(sum, rational.Mul(mean, area(m, t)))
+			area := exact.Area([]api.Point{m.Points[t[0]], m.Points[t[1]], m.Points[t[2]]})
+			sum = rational.Add(sum, rational.Mul(mean, area))
 		}
 	}
-	// Both the means and the areas are multiples.
+	// The means are three times as great, and the areas twice.
 	sum = rational.Mul("1/6", sum)
 	return numbers.Result(sum, sum)
-}
-
-// area returns the doubled area of a triangle.
-func area(m api.Mesh, t api.Triangle) api.Rational {
-	a, b, c := m.Points[t[0]], m.Points[t[1]], m.Points[t[2]]
-	return exact.Determinant(rational.Sub(b.X, a.X), rational.Sub(b.Y, a.Y), rational.Sub(c.X, a.X), rational.Sub(c.Y, a.Y))
 }
 
 // positive returns three times the mean of a linear function on a triangle, where it is counted as 0 if it is less; d has its values at the corners.
@@ -72,11 +67,11 @@ func positive(d [3]api.Rational) api.Rational {
 	return rational.Sub(sum, corner(d, less[0]))
 }
 
-// corner returns three times the mean of a linear function that counts only around a corner, as far as it has the sign that it has there.
+// corner returns three times the mean of a linear function that counts only around a corner, as far as it has the same sign as there.
 func corner(d [3]api.Rational, k int) api.Rational {
 	x := d[k]
 	shares := rational.Mul(rational.Sub(x, d[(k+1)%3]), rational.Sub(x, d[(k+2)%3]))
-	// It has this sign on that part of the triangle, cut off both sides at their zeros; its mean there is a third of the corner's value.
+	// The zeros on both sides cut off this part of the triangle, on which the mean is a third of the corner's value.
 	part, _ := rational.Div(rational.Mul(x, x), shares)
 	return rational.Mul(part, x)
 }
