@@ -94,6 +94,23 @@ func TestSpace(t *testing.T) {
 			t.Fatalf("%v and %v lead to %v, not to %v", v, w, between.Text(), want)
 		}
 		checkLine(t, p, q)
+		checkSpanned(t, p.Normal, q.Normal, v, w)
+	}
+}
+
+// checkSpanned compares the plane through three places with that of package vector.
+func checkSpanned(t *testing.T, a, b, c, at api.Vector) {
+	t.Helper()
+	spanned := Spanned(In(a), In(b), In(c))
+	want, e := vector.Spanned(a, b, c)
+	if e == api.ErrDependent {
+		if spanned[0].Sign() != 0 || spanned[1].Sign() != 0 || spanned[2].Sign() != 0 {
+			t.Fatalf("Spanned(%v, %v, %v) = %v", a, b, c, spanned)
+		}
+		return
+	}
+	if spanned.Side(In(at)) != Flat(want).Side(In(at)) || spanned.Side(In(b)) != 0 {
+		t.Fatalf("Spanned(%v, %v, %v) = %v, not %v", a, b, c, spanned, want)
 	}
 }
 
@@ -143,6 +160,17 @@ func TestVectors(t *testing.T) {
 		if got := Order(samples.Vector(c.a), samples.Vector(c.b)); got != c.want {
 			t.Errorf("Order(%s, %s) = %d", c.a, c.b, got)
 		}
+	}
+	for _, c := range []struct {
+		v, want string
+		factor  api.Rational
+	}{{"1/2 -1/3 0", "3 -2 0", "6"}, {"0 0 -8", "0 0 -1", "1/8"}, {"6 4 10", "3 2 5", "1/2"}, {"0 0 0", "0 0 0", "1"}} {
+		if got, factor := Primitive(samples.Vector(c.v)); got != samples.Vector(c.want) || factor != c.factor {
+			t.Errorf("Primitive(%s) = %v, %s", c.v, got, factor)
+		}
+	}
+	if Square(samples.Point("1/2 3"), samples.Point("2 -1")) != "73/4" {
+		t.Errorf("Square = %s", Square(samples.Point("1/2 3"), samples.Point("2 -1")))
 	}
 	if Determinant("1/2", "3", "5", "4") != "-13" {
 		t.Errorf("Determinant = %s", Determinant("1/2", "3", "5", "4"))

@@ -66,6 +66,12 @@ func Area(ring []api.Point) api.Rational {
 	return sum
 }
 
+// Square returns the squared distance of two points.
+func Square(a, b api.Point) api.Rational {
+	x, y := rational.Sub(b.X, a.X), rational.Sub(b.Y, a.Y)
+	return rational.Add(rational.Mul(x, x), rational.Mul(y, y))
+}
+
 // Weights returns numbers that are in proportion to the shares of three corners in a point, and their sum. If the corners turn left, the sum is greater than 0.
 func Weights(corners [3]Point, p Point) (parts [3]whole.Int, sum whole.Int) {
 	for i, c := range corners {

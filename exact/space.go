@@ -34,6 +34,22 @@ func (v Place) Combine(k whole.Int, w Place, m whole.Int) Place {
 	return sum
 }
 
+// Spanned returns the plane through three places, to whose normal they turn left. Its normal is zero if they are on one line.
+func Spanned(a, b, c Place) Plane {
+	var p Plane
+	for i := range p {
+		without := func(v Place) [3]whole.Int { return [3]whole.Int{v[(i+1)%4], v[(i+2)%4], v[(i+3)%4]} }
+		rest := without(a)
+		for k, x := range cross(without(b), without(c)) {
+			p[i] = p[i].Add(rest[k].Mul(x))
+		}
+		if i%2 == 1 {
+			p[i] = p[i].Neg()
+		}
+	}
+	return p
+}
+
 // Height returns a positive multiple of the distance of a place from the plane; it is greater than 0 on the side to which the normal points. Of a direction, it returns how fast this distance grows.
 func (p Plane) Height(v Place) whole.Int {
 	sum := whole.Int{}

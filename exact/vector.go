@@ -5,6 +5,7 @@ import (
 
 	"klippe/api"
 	"klippe/rational"
+	"klippe/whole"
 )
 
 // Plus returns the sum of two vectors.
@@ -36,6 +37,13 @@ func Cross(a, b api.Vector) api.Vector {
 // Determinant returns a times d less b times c.
 func Determinant(a, b, c, d api.Rational) api.Rational {
 	return rational.Sub(rational.Mul(a, d), rational.Mul(b, c))
+}
+
+// Primitive returns the positive multiple of a vector that has integers without a common divisor, and its factor. That of zeros has the factor 1.
+func Primitive(a api.Vector) (multiple api.Vector, factor api.Rational) {
+	n, factor := whole.Primitive(a.X, a.Y, a.Z)
+	text := func(i int) api.Rational { return api.Rational(n[i].Text()) }
+	return api.Vector{X: text(0), Y: text(1), Z: text(2)}, factor
 }
 
 // Order compares two vectors by X, then by Y, then by Z.

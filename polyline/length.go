@@ -2,7 +2,7 @@ package polyline
 
 import (
 	"klippe/api"
-	"klippe/rational"
+	"klippe/exact"
 	"klippe/roots"
 	"klippe/surd"
 )
@@ -27,7 +27,7 @@ func Around(c []api.Point) (surd.Surd, api.Errno) {
 func length(c []api.Point) (surd.Surd, api.Errno) {
 	var sum roots.Sum
 	for i, to := range c[1:] {
-		sum.Add(roots.Of(square(c[i], to)))
+		sum.Add(roots.Of(exact.Square(c[i], to)))
 		// Nothing is less than 0, so no term is lost again.
 		if sum.Len() > surd.MaxTerms {
 			return nil, api.ErrLimit
@@ -41,10 +41,4 @@ func length(c []api.Point) (surd.Surd, api.Errno) {
 		return nil, api.ErrLimit
 	}
 	return s, api.OK
-}
-
-// square returns the squared distance of two points.
-func square(a, b api.Point) api.Rational {
-	x, y := rational.Sub(b.X, a.X), rational.Sub(b.Y, a.Y)
-	return rational.Add(rational.Mul(x, x), rational.Mul(y, y))
 }

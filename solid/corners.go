@@ -19,9 +19,8 @@ type plane struct {
 
 // canonical returns the plane with a primitive normal.
 func canonical(p api.Plane) plane {
-	n, factor := whole.Primitive(p.Normal.X, p.Normal.Y, p.Normal.Z)
-	text := func(x whole.Int) api.Rational { return api.Rational(x.Text()) }
-	p = api.Plane{Normal: api.Vector{X: text(n[0]), Y: text(n[1]), Z: text(n[2])}, Offset: rational.Mul(p.Offset, factor)}
+	n, factor := exact.Primitive(p.Normal)
+	p = api.Plane{Normal: n, Offset: rational.Mul(p.Offset, factor)}
 	return plane{p, exact.Flat(p)}
 }
 
