@@ -24,8 +24,8 @@ func Gradient(n api.Vector) (api.Point, api.Errno) {
 	if e := checkSloping(n, api.OK); e != api.OK {
 		return api.Point{}, e
 	}
-	x, e := quotient(rational.Neg(n.X), n.Z)
-	y, e2 := quotient(rational.Neg(n.Y), n.Z)
+	x, e := numbers.Quotient(rational.Neg(n.X), n.Z)
+	y, e2 := numbers.Quotient(rational.Neg(n.Y), n.Z)
 	if e := cmp.Or(e, e2); e != api.OK {
 		return api.Point{}, e
 	}
@@ -67,7 +67,7 @@ func Height(p api.Plane, at api.Point) (api.Rational, api.Errno) {
 	if e := checkSloping(p.Normal, cmp.Or(rational.Check(p.Offset), vector.CheckPoint(at))); e != api.OK {
 		return "", e
 	}
-	return quotient(rational.Sub(p.Offset, level(p.Normal, at)), p.Normal.Z)
+	return numbers.Quotient(rational.Sub(p.Offset, level(p.Normal, at)), p.Normal.Z)
 }
 
 // Apparent returns how much a plane falls along a direction of the map.
@@ -75,7 +75,7 @@ func Apparent(n api.Vector, along api.Point) (api.Rational, api.Errno) {
 	if e := checkSloping(n, checkDirection(along)); e != api.OK {
 		return "", e
 	}
-	return quotient(level(n, along), n.Z)
+	return numbers.Quotient(level(n, along), n.Z)
 }
 
 // True returns the normal, with 1 as Z, of the plane that falls so along two directions.
@@ -88,8 +88,8 @@ func True(a, b Fall) (api.Vector, api.Errno) {
 	if determinant == "0" {
 		return api.Vector{}, api.ErrDependent
 	}
-	x, e := quotient(exact.Determinant(a.By, a.Along.Y, b.By, b.Along.Y), determinant)
-	y, e2 := quotient(exact.Determinant(a.Along.X, a.By, b.Along.X, b.By), determinant)
+	x, e := numbers.Quotient(exact.Determinant(a.By, a.Along.Y, b.By, b.Along.Y), determinant)
+	y, e2 := numbers.Quotient(exact.Determinant(a.Along.X, a.By, b.Along.X, b.By), determinant)
 	if e := cmp.Or(e, e2); e != api.OK {
 		return api.Vector{}, e
 	}

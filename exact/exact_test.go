@@ -172,6 +172,9 @@ func TestVectors(t *testing.T) {
 	if Square(samples.Point("1/2 3"), samples.Point("2 -1")) != "73/4" {
 		t.Errorf("Square = %s", Square(samples.Point("1/2 3"), samples.Point("2 -1")))
 	}
+	if level, upright := Rise(samples.Vector("1/2 -3 -2/3")); level != "37/4" || upright != "4/9" {
+		t.Errorf("Rise = %s, %s", level, upright)
+	}
 	if Determinant("1/2", "3", "5", "4") != "-13" {
 		t.Errorf("Determinant = %s", Determinant("1/2", "3", "5", "4"))
 	}

@@ -29,6 +29,11 @@ func Dot(a, b api.Vector) api.Rational {
 	return rational.Sum(rational.Mul(a.X, b.X), rational.Mul(a.Y, b.Y), rational.Mul(a.Z, b.Z))
 }
 
+// Rise returns the squares of the level and of the upright part of a vector. The squared tangent of the plunge of a line is the second one, divided by the first one, and that of the dip of a plane the first one of its normal, divided by the second one.
+func Rise(v api.Vector) (level, upright api.Rational) {
+	return rational.Add(rational.Mul(v.X, v.X), rational.Mul(v.Y, v.Y)), rational.Mul(v.Z, v.Z)
+}
+
 // Cross returns the cross product of two vectors.
 func Cross(a, b api.Vector) api.Vector {
 	return api.Vector{X: Determinant(a.Y, a.Z, b.Y, b.Z), Y: Determinant(a.Z, a.X, b.Z, b.X), Z: Determinant(a.X, a.Y, b.X, b.Y)}

@@ -28,6 +28,12 @@ func Result[T any](result T, contained ...api.Rational) (T, api.Errno) {
 	return result, api.OK
 }
 
+// Quotient returns the quotient by a number that is not 0, as a result.
+func Quotient(x, y api.Rational) (api.Rational, api.Errno) {
+	quotient, _ := rational.Div(x, y)
+	return Result(quotient, quotient)
+}
+
 // isLong reports whether a canonical number has a part of more than api.MaxDigits digits.
 func isLong(x api.Rational) bool {
 	if len(x) <= api.MaxDigits {

@@ -38,3 +38,18 @@ func TestResult(t *testing.T) {
 		}
 	}
 }
+
+func TestQuotient(t *testing.T) {
+	for _, c := range []struct {
+		x, y, want api.Rational
+		e          api.Errno
+	}{
+		{"6", "-4", "-3/2", api.OK}, {"0", "5/7", "0", api.OK}, {"1/2", "1/3", "3/2", api.OK}, {most, most, "1", api.OK}, {"1", most, "1/" + most, api.OK},
+		// Numbers of any length can have a quotient that is right.
+		{more, more, "1", api.OK}, {most, "1/2", "", api.ErrLimit}, {"1/2", most, "", api.ErrLimit},
+	} {
+		if got, e := Quotient(c.x, c.y); got != c.want || e != c.e {
+			t.Errorf("Quotient(%s, %s) = %s, %d", c.x, c.y, got, e)
+		}
+	}
+}
