@@ -35,15 +35,16 @@ func Common(l ...api.Rational) []Int {
 			common = integer.Mul(common, share)
 		}
 	}
+	all := Of(common)
 	parts := make([]Int, len(l), len(l)+1)
 	for i, x := range l {
 		num, den := rational.Parts(x)
 		parts[i] = Of(num)
 		if den != common {
-			parts[i] = parts[i].Mul(Of(common).Over(Of(den)))
+			parts[i] = parts[i].Mul(all.Over(Of(den)))
 		}
 	}
-	return append(parts, Of(common))
+	return append(parts, all)
 }
 
 // Primitive returns the positive multiple of some numbers that has integers without a common divisor, and its factor. Zeros alone have the factor 1.

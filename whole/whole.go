@@ -92,6 +92,15 @@ func (x Int) Sign() int {
 	return 1
 }
 
+// Words returns the number of words of the magnitude.
+func (x Int) Words() int { return len(x.size()) }
+
+// Without leaves out some of the lowest words: it divides by a power of 2, and rounds toward 0.
+func (x Int) Without(lowest int) Int {
+	size := x.size()
+	return signed(x.isLess(), size[min(lowest, len(size)):])
+}
+
 // Compare returns the sign of x less y.
 func Compare(x, y Int) int {
 	if x.isSmall() && y.isSmall() {

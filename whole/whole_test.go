@@ -178,3 +178,24 @@ func TestPrimitive(t *testing.T) {
 		}
 	}
 }
+
+// TestWithout leaves out words, up to all of them.
+func TestWithout(t *testing.T) {
+	for _, a := range integers(rand.New(rand.NewSource(5))) {
+		x := of(a)
+		if x.Words() != len(a.Bits()) {
+			t.Errorf("%s has %d words", a, x.Words())
+		}
+		for lowest := range x.Words() + 2 {
+			want := new(big.Int).Quo(a, new(big.Int).Lsh(big.NewInt(1), uint(64*lowest)))
+			got := x.Without(lowest)
+			if string(got.Text()) != want.String() {
+				t.Errorf("%s without %d words is %s", a, lowest, got.Text())
+			}
+			checkSmall(t, got, want)
+		}
+		if string(x.Text()) != a.String() {
+			t.Errorf("%s has changed", a)
+		}
+	}
+}
